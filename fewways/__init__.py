@@ -1,0 +1,1 @@
+"""Fewways: webs parted to fewest ways."""

@@ -1,0 +1,98 @@
+"""What several tests use: odd things of all kinds, webs, and how a refusal is looked at."""
+
+import itertools
+import random
+
+
+def nested(wrap, deep):
+    thing = 0
+    for _ in range(deep):
+        thing = wrap(thing)
+    return thing
+
+
+def anything():
+    """Things of all kinds; none of them is a web, and none but () and (0,) is places, ways or ties of one."""
+    return [
+        None, True, False, 0, 1, 3, -1, 10 ** 29, -(10 ** 29),
+        "", "0", "01", "web", "0-1", "x" * 2000,
+        [], [0], [0, 1], [(0, 1)], [[0, 1]], [3, []], [3, ()],
+        {}, {0: 1}, {(0, 1): True}, {"many": 3, "ties": ()},
+        (), (0,), ((),), (None,), (True,), (False,), ("0",), ([],), ({},), ([0],), ({0: 1},), (-1,), (10 ** 29,),
+        (None, None), (True, False), ("0", "1"), ([], {}), ([0], [1]), ({}, {}), (((0,),), 1),
+        nested(lambda thing: [thing], 59), nested(lambda thing: (thing,), 59), nested(lambda thing: {"a": thing}, 59),
+        nested(lambda thing: (3, thing), 59), nested(lambda thing: (thing, ()), 59),
+        nested(lambda thing: ([thing], {0: ()}), 28),
+        tuple([None] * 9000), tuple([True] * 9000), [0] * 9000, tuple([(0, 0)] * 3000), tuple([[]] * 9000),
+    ]
+
+
+def bad_webs():
+    """Things that are no webs, some of them almost."""
+    ties = [
+        ((0, 1), (0, 1)), ((1, 2), (0, 1)), ((0, 2), (0, 1)), ((1, 0),), ((1, 1),), ((0, 0),), ((0, 3),), ((2, 3),),
+        ((3, 4),), ((-1, 0),), ((-2, -1),), ((0, 10 ** 29),), ((False, True),), ((0, True),), ((False, 1),),
+        ((True, 2),), ([0, 1],), ((0, 1), [0, 2]), [(0, 1)], [], ((0, 1, 2),), ((0,),), ((),), (0, 1), (0,), None,
+        0, "", "01", ("01",), {}, {(0, 1): True}, ((0, "1"),), (("0", "1"),), ((0, None),), ((None, None),),
+        (((0,), (1,)),), (((0, 1),),), ((0, [1]),), (({}, {}),), ((0, 1), None), ((0, 1), "12"),
+        ((0, 1), (0, 2), (0, 1)), ((0, 1), (2, 1)), ((0, 1), (1, 2), (1, 2)),
+        nested(lambda thing: (thing,), 55), nested(lambda thing: [thing], 55), nested(lambda thing: {0: thing}, 55),
+        tuple([(0, 1)] * 3000), tuple([[]] * 9000),
+    ]
+    many = [61, 62, 1000, 10 ** 29, -1, -(10 ** 29), True, False, "3", "", None, (), [], {}, (3,), [3], ("3",)]
+    found = anything() + [(3, each) for each in ties] + [(each, ()) for each in many]
+    found += [(0, ((0, 1),)), (1, ((0, 1),)), (1, ((0, 0),)), (60, ((0, 60),)), (60, ((59, 60),)), (61, ((0, 1),))]
+    found += [(3,), (3, (), ()), (3, ((0, 1),), ()), [3, ()], {3: ()}, ((), 3), (((0, 1),), 3), (3, (0, 1), (0, 2))]
+    return found
+
+
+def full_ties(many):
+    return tuple(itertools.combinations(range(many), 2))
+
+
+def full(many):
+    return (many, full_ties(many))
+
+
+def path(many):
+    return (many, tuple((at, at + 1) for at in range(many - 1)))
+
+
+def ring(many):
+    return (many, tuple(sorted([(at, at + 1) for at in range(many - 1)] + [(0, many - 1)])))
+
+
+def star(many):
+    return (many, tuple((0, at) for at in range(1, many)))
+
+
+PETERSEN = (10, tuple(sorted(
+    [(0, 1), (1, 2), (2, 3), (3, 4), (0, 4), (0, 5), (1, 6), (2, 7), (3, 8), (4, 9)]
+    + [(5, 7), (7, 9), (6, 9), (6, 8), (5, 8)])))
+
+
+def every_web(many):
+    """All webs of so many places."""
+    ties = full_ties(many)
+    for size in range(len(ties) + 1):
+        for chosen in itertools.combinations(ties, size):
+            yield (many, chosen)
+
+
+def some_webs(many, ties, times, seed):
+    """Webs of so many places and ties, the same ones each time."""
+    chance = random.Random(seed)
+    for _ in range(times):
+        yield (many, tuple(sorted(chance.sample(full_ties(many), ties))))
+
+
+def same(thing, *others):
+    """Tell whether a thing is one of the others, True and 1 being two."""
+    return repr(thing) in [repr(other) for other in others]
+
+
+def refused(case, kind, call, *handed):
+    """The call is refused with just this class."""
+    with case.assertRaises(kind, msg=f"{call.__name__} of {str(handed)[:200]}") as caught:
+        call(*handed)
+    case.assertIs(type(caught.exception), kind, f"{call.__name__} of {str(handed)[:200]}")
