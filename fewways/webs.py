@@ -35,14 +35,19 @@ def is_rising(things):
     return True
 
 
-def are_ties(many, thing):
-    """Tell of anything whether it is a rising tuple of ties between some of so many places."""
+def are_rising_pairs(many, thing):
+    """Tell of anything whether it is a rising tuple of pairs of unlike ones of so many places."""
     if not isinstance(thing, tuple):
         return False
-    for tie in thing:
-        if not is_pair(many, tie) or tie[0] > tie[1]:
+    for pair in thing:
+        if not is_pair(many, pair):
             return False
     return is_rising(thing)
+
+
+def are_ties(many, thing):
+    """Tell of anything whether it is a rising tuple of ties between some of so many places."""
+    return are_rising_pairs(many, thing) and all([low < high for low, high in thing])
 
 
 def are_places(many, thing):
@@ -123,19 +128,23 @@ def part_with(near, start):
     return tuple(sorted(part))
 
 
-def parts(web):
-    """The parts of a web, a list of rising tuples, by their least places."""
-    check_web(web)
-    near = all_tied(web)
+def parts_among(near, places):
+    """The parts that rising places make, by the places that are tied to each of them: a list of rising tuples."""
     found = []
     seen = set()
-    for place in range(web[0]):
+    for place in places:
         if place not in seen:
             part = part_with(near, place)
             found.append(part)
             for other in part:
                 seen.add(other)
     return found
+
+
+def parts(web):
+    """The parts of a web, a list of rising tuples, by their least places."""
+    check_web(web)
+    return parts_among(all_tied(web), list(range(web[0])))
 
 
 def without(web, places):

@@ -3,21 +3,32 @@
 import copy
 import unittest
 
+from fewways.bars import best_bar, is_bar_paper, keeps, shows, shows_with
 from fewways.errors import FewError
+from fewways.forests import forest_bar, forest_fewest, forest_parting, is_forest
+from fewways.opens import forest_count, open_places
+from fewways.plans import is_plan, plan_web
 from fewways.trial import counted, fewest, least_parting, through_ends
 from fewways.ways import is_parting, is_way, parting_along, plain, ties_along, written
 from fewways.webs import is_web, parts, tied, web_of, without
-from things import anything, bad_webs, refused
+from things import anything, bad_webs, deep_plan, refused, ring
 
 WEB = (5, ((0, 1), (0, 2), (1, 2), (2, 3)))
 PARTING = ((4,), (3, 2), (1, 0))
+FOREST = (6, ((0, 1), (0, 2), (0, 3), (3, 4)))
+PLAN = ("across", (("one",), ("beside", (("one",), ("one",), ("one",)))))
 QUESTIONS = [
     (is_web, (WEB,)), (web_of, (5, [(2, 1), (0, 1), (1, 2)])), (tied, (WEB, 2)), (parts, (WEB,)),
     (without, (WEB, (1, 3))), (is_way, (WEB, (1, 0))), (written, (WEB, (1, 0))), (is_parting, (WEB, PARTING)),
     (plain, (WEB, PARTING)), (ties_along, (WEB, PARTING)), (parting_along, (WEB, ((0, 1), (2, 3)))),
     (fewest, (WEB,)), (least_parting, (WEB,)), (counted, (WEB,)), (through_ends, (WEB,)),
     (through_ends, ((3, ((0, 1), (1, 2))),)),
+    (shows, (WEB, (2,))), (shows_with, (WEB, (1,), (1, 2))), (keeps, (WEB, (0, 1), PARTING)), (best_bar, (WEB,)),
+    (is_bar_paper, (WEB, ((1, 2), PARTING, (1, 2)))), (is_forest, (WEB,)), (forest_fewest, (FOREST, (0, 3))),
+    (forest_parting, (FOREST, (0, 3))), (forest_bar, (FOREST, (0, 3))), (forest_count, (FOREST,)),
+    (open_places, (FOREST,)), (is_plan, (PLAN,)), (plan_web, (PLAN,)),
 ]
+OF_ANYTHING = (is_web, is_plan)
 
 
 def answer(call, handed):
@@ -75,16 +86,29 @@ class Kept(unittest.TestCase):
         self.assertEqual(web, (5, ((0, 4), (2, 4))))
         self.assertEqual(parting_along(web, ties_along(web, least_parting(web))), least_parting(web))
 
+    def test_what_was_told_of_forests_and_plans_may_be_handed_in_again(self):
+        web = plan_web(PLAN)
+        ends = open_places(web)
+        self.assertIs(is_bar_paper(web, (ends, forest_parting(web, ends), forest_bar(web, ends))), True)
+        self.assertEqual(shows(web, best_bar(web)[1]), best_bar(web)[0])
+
+    def test_a_refusal_is_of_its_class_each_time(self):
+        for call, handed in [(best_bar, (ring(13),)), (forest_count, (ring(3),)), (forest_bar, (ring(3), None)),
+                             (plan_web, (deep_plan(25),)), (keeps, (WEB, (0,), ())), (shows, (WEB, (5,)))]:
+            kind = answer(call, handed)
+            for _ in range(3):
+                refused(self, kind, call, *handed)
+
     def test_each_refusal_stands_under_few_error(self):
         for call, handed in QUESTIONS:
-            if call is not is_web:
+            if call not in OF_ANYTHING:
                 with self.assertRaises(FewError):
                     call(*((None,) + handed[1:]))
 
     def test_a_refusal_leaves_later_answers_as_they_were(self):
         before = [answer(call, handed) for call, handed in QUESTIONS]
         for call, handed in QUESTIONS:
-            if call is not is_web:
+            if call not in OF_ANYTHING:
                 refused(self, answer(call, (None,) + handed[1:]), call, *((None,) + handed[1:]))
         self.assertEqual([answer(call, handed) for call, handed in QUESTIONS], before)
 

@@ -5,25 +5,13 @@ import math
 import time
 import unittest
 
-from fewways.errors import FewError, NoWeb, TooMany
+from fewways.errors import NoWeb, TooMany
 from fewways.trial import counted, fewest, least_parting, through_ends
-from fewways.ways import is_parting, parting_along, plain
+from fewways.ways import is_parting, plain
 from fewways.webs import is_web, web_of
-from things import PETERSEN, bad_webs, every_web, full, path, refused, ring, some_webs, star
+from things import PETERSEN, bad_webs, every_web, full, path, plain_partings, refused, ring, some_webs, star
 
 CALLS = (fewest, least_parting, counted, through_ends)
-
-
-def plain_partings(web):
-    """All plain partings of a web: one for each set of its ties along which a parting goes."""
-    found = []
-    for size in range(len(web[1]) + 1):
-        for ties in itertools.combinations(web[1], size):
-            try:
-                found.append(parting_along(web, ties))
-            except FewError:
-                pass
-    return found
 
 
 def ends_by_orders(web):

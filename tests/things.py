@@ -3,6 +3,9 @@
 import itertools
 import random
 
+from fewways.errors import FewError
+from fewways.ways import parting_along
+
 
 def nested(wrap, deep):
     thing = 0
@@ -84,6 +87,109 @@ def some_webs(many, ties, times, seed):
     chance = random.Random(seed)
     for _ in range(times):
         yield (many, tuple(sorted(chance.sample(full_ties(many), ties))))
+
+
+def some_forests(many, ties, times, seed):
+    """Forests of so many places and ties, the same ones each time."""
+    chance = random.Random(seed)
+    for _ in range(times):
+        names = chance.sample(range(many), many)
+        hung = [(names[at], names[chance.randrange(at)]) for at in range(1, many)]
+        yield (many, tuple(sorted((min(pair), max(pair)) for pair in chance.sample(hung, ties))))
+
+
+def plain_partings(web):
+    """All plain partings of a web: one for each set of its ties along which a parting goes."""
+    found = []
+    for size in range(len(web[1]) + 1):
+        for ties in itertools.combinations(web[1], size):
+            try:
+                found.append(parting_along(web, ties))
+            except FewError:
+                pass
+    return found
+
+
+def every_places(many):
+    """All rising tuples of some of so many places."""
+    for size in range(many + 1):
+        yield from itertools.combinations(range(many), size)
+
+
+def bad_places(many):
+    """Things that are no rising tuples of some of so many places."""
+    found = [thing for thing in anything() if not same(thing, ()) and not (many and same(thing, (0,)))]
+    found += [(many,), (0, many), (1, 0), (0, 0), (0, 1, 1), (2, 0, 1), [0, 1], (0, True), (False, 1), (0, "1"),
+              (0, None), (0, [1]), ((0,),), (-1, 0), (0, 10 ** 29), {0: 0}]
+    return found
+
+
+def parts_beside(web, places):
+    """How many parts a web has without some places, by joining the ends of each tie that is left."""
+    of = {place: place for place in range(web[0]) if place not in places}
+    for a, b in web[1]:
+        if a in of and b in of:
+            gone, kept = of[a], of[b]
+            of = {place: kept if mark == gone else mark for place, mark in of.items()}
+    return len(set(of.values()))
+
+
+ONE = ("one",)
+
+
+def wide_plan(word, many):
+    return (word, tuple([ONE] * many))
+
+
+def deep_plan(deep):
+    """A plan so deep, with as many `("one",)` in it."""
+    plan = ONE
+    for at in range(deep - 1):
+        plan = (("beside", "across")[at % 2], (ONE, plan) if at % 3 else (plan, ONE))
+    return plan
+
+
+def ones_of(plan):
+    return 1 if plan == ONE else sum(ones_of(inner) for inner in plan[1])
+
+
+def plans_of(many):
+    """All plans with just so many `("one",)`."""
+    if many == 1:
+        yield ONE
+        return
+    for cuts in every_places(many - 1):
+        bounds = [0] + [cut + 1 for cut in cuts] + [many]
+        sizes = [high - low for low, high in zip(bounds, bounds[1:])]
+        if len(sizes) > 1:
+            for inner in itertools.product(*(list(plans_of(size)) for size in sizes)):
+                yield ("beside", inner)
+                yield ("across", inner)
+
+
+def some_plans(most):
+    """All plans with at most so many `("one",)`."""
+    for many in range(1, most + 1):
+        yield from plans_of(many)
+
+
+def drawn_plan(chance, many, deep):
+    if many == 1 or deep == 1:
+        return ONE if many == 1 else None
+    word = chance.choice(("beside", "across"))
+    pieces = many if deep == 2 else chance.choice((2, 2, 2, min(3, many), chance.randint(2, many)))
+    cuts = sorted(chance.sample(range(1, many), pieces - 1))
+    if chance.random() < 0.3 and pieces == 2:
+        cuts = [1]
+    sizes = [high - low for low, high in zip([0] + cuts, cuts + [many])]
+    return (word, tuple(drawn_plan(chance, size, deep - 1) for size in sizes))
+
+
+def drawn_plans(times, most, seed):
+    """Plans with at most so many `("one",)`, the same ones each time."""
+    chance = random.Random(seed)
+    for at in range(times):
+        yield drawn_plan(chance, most if at % 3 == 0 else chance.randint(1, most), 24)
 
 
 def same(thing, *others):
