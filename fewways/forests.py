@@ -2,7 +2,7 @@
 
 from fewways.errors import NoForest
 from fewways.ways import parting_along
-from fewways.webs import all_tied, check_places, check_web, parts, tie_of
+from fewways.webs import all_tied, check_places, parts, tie_of
 
 
 def is_forest(web):
@@ -13,7 +13,6 @@ def is_forest(web):
 
 def check_forest(web):
     """Refuse what is no web, or one with a ring."""
-    check_web(web)
     if not is_forest(web):
         raise NoForest("the web has a ring")
 
@@ -27,7 +26,6 @@ def hung(web):
     at = 0
     for top in range(web[0]):
         if top not in seen:
-            seen.add(top)
             rows.append((top, None))
         while at < len(rows):
             place, upper = rows[at]

@@ -3,10 +3,15 @@
 import copy
 import unittest
 
+from fewways.acrosses import plan_bar, plan_fewest, plan_parting
 from fewways.bars import best_bar, is_bar_paper, keeps, shows, shows_with
-from fewways.errors import FewError
+from fewways.errors import FewError, NoForest, NoOneWay, NoParting, NoPlace, NoPlan, NoWeb, TooMany
 from fewways.forests import forest_bar, forest_fewest, forest_parting, is_forest
+from fewways.fours import four_of, is_four, plan_of
+from fewways.oneways import (both_ways, comes_from, is_led, is_led_ring, is_one_way, leads_to, least_order, some_ring,
+                             upward)
 from fewways.opens import forest_count, open_places
+from fewways.pairs import is_marks, is_pairs, most_pairs, some_marks, some_pairs
 from fewways.plans import is_plan, plan_web
 from fewways.trial import counted, fewest, least_parting, through_ends
 from fewways.ways import is_parting, is_way, parting_along, plain, ties_along, written
@@ -16,6 +21,7 @@ from things import anything, bad_webs, deep_plan, refused, ring
 WEB = (5, ((0, 1), (0, 2), (1, 2), (2, 3)))
 PARTING = ((4,), (3, 2), (1, 0))
 FOREST = (6, ((0, 1), (0, 2), (0, 3), (3, 4)))
+ONE_WAY = (5, ((0, 1), (1, 2), (2, 0), (2, 3), (3, 2)))
 PLAN = ("across", (("one",), ("beside", (("one",), ("one",), ("one",)))))
 QUESTIONS = [
     (is_web, (WEB,)), (web_of, (5, [(2, 1), (0, 1), (1, 2)])), (tied, (WEB, 2)), (parts, (WEB,)),
@@ -27,8 +33,14 @@ QUESTIONS = [
     (is_bar_paper, (WEB, ((1, 2), PARTING, (1, 2)))), (is_forest, (WEB,)), (forest_fewest, (FOREST, (0, 3))),
     (forest_parting, (FOREST, (0, 3))), (forest_bar, (FOREST, (0, 3))), (forest_count, (FOREST,)),
     (open_places, (FOREST,)), (is_plan, (PLAN,)), (plan_web, (PLAN,)),
+    (is_four, (WEB, (0, 1, 2, 3))), (four_of, (WEB,)), (four_of, ((4, ((0, 1), (1, 2), (2, 3))),)), (plan_of, (WEB,)),
+    (plan_fewest, (PLAN,)), (plan_parting, (PLAN,)), (plan_bar, (PLAN,)), (is_one_way, (ONE_WAY,)),
+    (leads_to, (ONE_WAY, 2)), (comes_from, (ONE_WAY, 2)), (both_ways, (WEB,)), (upward, (WEB,)),
+    (is_led, (ONE_WAY, (0, 1, 2))), (is_led_ring, (ONE_WAY, (0, 1, 2))), (least_order, (ONE_WAY,)),
+    (least_order, (WEB,)), (some_ring, (ONE_WAY,)), (is_pairs, (ONE_WAY, ((0, 1), (1, 2)))),
+    (is_marks, (ONE_WAY, ((0, 2), (2,)))), (most_pairs, (ONE_WAY,)), (some_pairs, (ONE_WAY,)), (some_marks, (ONE_WAY,)),
 ]
-OF_ANYTHING = (is_web, is_plan)
+OF_ANYTHING = (is_web, is_plan, is_one_way)
 
 
 def answer(call, handed):
@@ -91,11 +103,23 @@ class Kept(unittest.TestCase):
         ends = open_places(web)
         self.assertIs(is_bar_paper(web, (ends, forest_parting(web, ends), forest_bar(web, ends))), True)
         self.assertEqual(shows(web, best_bar(web)[1]), best_bar(web)[0])
+        self.assertIs(is_bar_paper(web, ((), plan_parting(PLAN), plan_bar(PLAN))), True)
+        plan, order = plan_of(web)
+        self.assertEqual(plan_web(plan)[0], len(order))
+
+    def test_what_was_told_of_one_way_webs_may_be_handed_in_again(self):
+        both = both_ways(WEB)
+        self.assertIs(is_led_ring(both, some_ring(both)), True)
+        self.assertIs(is_led(upward(WEB), least_order(upward((3, ((0, 1), (1, 2)))))), True)
+        self.assertIs(is_pairs(both, some_pairs(both)), True)
+        self.assertIs(is_marks(both, some_marks(both)), True)
 
     def test_a_refusal_is_of_its_class_each_time(self):
-        for call, handed in [(best_bar, (ring(13),)), (forest_count, (ring(3),)), (forest_bar, (ring(3), None)),
-                             (plan_web, (deep_plan(25),)), (keeps, (WEB, (0,), ())), (shows, (WEB, (5,)))]:
-            kind = answer(call, handed)
+        for kind, call, handed in [
+                (TooMany, best_bar, (ring(13),)), (NoForest, forest_count, (ring(3),)),
+                (NoForest, forest_bar, (ring(3), None)), (NoPlan, plan_web, (deep_plan(25),)), (NoPlan, plan_bar, (None,)),
+                (TooMany, four_of, (ring(21),)), (NoPlace, leads_to, (ONE_WAY, 5)), (NoWeb, both_ways, (ONE_WAY,)),
+                (NoOneWay, some_pairs, ((2, ((0, 0),)),)), (NoParting, keeps, (WEB, (0,), ())), (NoPlace, shows, (WEB, (5,)))]:
             for _ in range(3):
                 refused(self, kind, call, *handed)
 

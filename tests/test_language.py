@@ -25,6 +25,15 @@ def trees():
         yield path.name, ast.parse(path.read_text())
 
 
+def parents(tree):
+    """For each node of a tree the one that holds it."""
+    return {child: node for node in ast.walk(tree) for child in ast.iter_child_nodes(node)}
+
+
+def calls_name(node, names):
+    return isinstance(node, ast.Call) and isinstance(node.func, ast.Name) and node.func.id in names
+
+
 def bound(tree):
     """Each name that a file binds, but by an import row."""
     for node in ast.walk(tree):
@@ -103,6 +112,87 @@ class Language(unittest.TestCase):
             for node in ast.walk(tree):
                 if isinstance(node, ast.Attribute):
                     self.assertIn(node.attr, METHODS, (name, node.lineno))
+
+    def test_top_of_files(self):
+        for name, tree in trees():
+            kinds = [type(node) for node in tree.body[1:]]
+            self.assertIsNotNone(ast.get_docstring(tree), name)
+            self.assertLessEqual(set(kinds), {ast.ImportFrom, ast.FunctionDef, ast.ClassDef, ast.Assign}, name)
+            tops = [node.name if hasattr(node, "name") else node.targets[0].id for node in tree.body[1:]
+                    if not isinstance(node, ast.ImportFrom)]
+            self.assertEqual(len(tops), len(set(tops)), name)
+
+    def test_no_two_files_draw_from_one_another(self):
+        left = {"fewways." + name[:-3]: {node.module for node in tree.body if isinstance(node, ast.ImportFrom)}
+                for name, tree in trees()}
+        while left:
+            free = {module for module in left if not left[module] & set(left)}
+            self.assertTrue(free, left)
+            left = {module: drawn for module, drawn in left.items() if module not in free}
+
+    def test_what_is_drawn_is_used(self):
+        for name, tree in trees():
+            used = {node.id for node in ast.walk(tree) if isinstance(node, ast.Name)}
+            for node in tree.body:
+                if isinstance(node, ast.ImportFrom):
+                    self.assertLessEqual({alias.name for alias in node.names}, used, name)
+
+    def test_is_stands_beside_none_and_truths(self):
+        for name, tree in trees():
+            for node in ast.walk(tree):
+                if isinstance(node, ast.Compare) and any(isinstance(op, (ast.Is, ast.IsNot)) for op in node.ops):
+                    self.assertIn(ast.unparse(node.comparators[0]), ("None", "True", "False"), (name, node.lineno))
+
+    def test_walked_at_once(self):
+        for name, tree in trees():
+            above = parents(tree)
+            for node in ast.walk(tree):
+                walks = calls_name(node, ("zip", "enumerate", "reversed", "range")) or (
+                    isinstance(node, ast.Call) and isinstance(node.func, ast.Attribute)
+                    and node.func.attr in ("items", "keys", "values"))
+                if walks:
+                    outer = above[node]
+                    looped = isinstance(outer, (ast.For, ast.comprehension)) and outer.iter is node
+                    taken = calls_name(outer, ("list", "tuple", "dict", "sorted", "sum", "any", "all", "enumerate", "zip"))
+                    alone = calls_name(outer, ("min", "max")) and outer.args == [node]
+                    self.assertTrue(looped or (taken and outer.args[0] is node) or alone, (name, node.lineno))
+
+    def test_sets(self):
+        for name, tree in trees():
+            above = parents(tree)
+            for node in ast.walk(tree):
+                if isinstance(node, (ast.Set, ast.SetComp)) or calls_name(node, ("set", "frozenset")):
+                    outer = above[node]
+                    on_the_spot = isinstance(outer, ast.Compare) or calls_name(outer, ("sorted", "len"))
+                    if not on_the_spot:
+                        self.assertIsInstance(outer, ast.Assign, (name, node.lineno))
+                        self.check_kept_set(name, tree, above, outer)
+
+    def check_kept_set(self, name, tree, above, row):
+        """A set that is kept is given once, and asked and changed in few ways."""
+        kept = row.targets[0].id
+        around = [node for node in ast.walk(tree) if isinstance(node, ast.FunctionDef) and row in ast.walk(node)]
+        self.assertEqual(len(around), 1, (name, kept))
+        for node in ast.walk(around[0]):
+            if isinstance(node, ast.Name) and node.id == kept and node is not row.targets[0]:
+                outer = above[node]
+                changed = (isinstance(outer, ast.Attribute) and outer.attr in ("add", "discard")
+                           and isinstance(above[above[outer]], ast.Expr))
+                asked = isinstance(outer, ast.Compare) and outer.comparators == [node]
+                told = calls_name(outer, ("len", "sorted"))
+                self.assertTrue(changed or asked or told, (name, node.lineno))
+
+    def test_walked_things_are_not_changed(self):
+        changes = ("append", "clear", "extend", "insert", "pop", "remove", "reverse", "setdefault", "update", "sort")
+        for name, tree in trees():
+            for loop in ast.walk(tree):
+                if isinstance(loop, ast.For):
+                    walked = {node.id for node in ast.walk(loop.iter) if isinstance(node, ast.Name)}
+                    for node in [inner for row in loop.body for inner in ast.walk(row)]:
+                        if isinstance(node, ast.Attribute) and node.attr in changes:
+                            self.assertNotIn(ast.unparse(node.value), walked, (name, node.lineno))
+                        if isinstance(node, ast.Subscript) and not isinstance(node.ctx, ast.Load):
+                            self.assertNotIn(ast.unparse(node.value), walked, (name, node.lineno))
 
     def test_tests_lie_beside(self):
         for path in FILES:

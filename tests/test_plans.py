@@ -6,31 +6,7 @@ import unittest
 from fewways.errors import NoPlan
 from fewways.plans import is_plan, plan_web
 from fewways.webs import is_web
-from things import (ONE, anything, deep_plan, drawn_plans, full, nested, ones_of, refused, some_plans, star, wide_plan)
-
-
-def bad_plans():
-    """Things that are no plans, some of them almost."""
-    two = ("beside", (ONE, ONE))
-    return anything() + [
-        ("two",), ("One",), ("one ",), ("",), "one", ["one"], ("one", ()), ("one", "one"), ("one", (ONE, ONE)), (("one",),),
-        ("beside",), ("across",), ("beside", ()), ("across", (ONE,)), ("beside", (two,)), ("beside", ONE), ("across", two),
-        ("beside", [ONE, ONE]), ["beside", (ONE, ONE)], ("beside", (ONE, ONE), ()), ("beside", (ONE, ONE), ONE),
-        ("beside", ONE, ONE), ("Beside", (ONE, ONE)), ("acros", (ONE, ONE)), ("apart", (ONE, ONE)), (None, (ONE, ONE)),
-        (0, (ONE, ONE)), (True, (ONE, ONE)), (("beside",), (ONE, ONE)), (["beside"], (ONE, ONE)), ({}, (ONE, ONE)),
-        ("beside", (ONE, ["one"])), ("beside", (["one"], ONE)), ("beside", (ONE, "one")), ("beside", (ONE, None)),
-        ("beside", (ONE, 1)), ("beside", (ONE, ())), ("beside", (ONE, {})), ("beside", {0: ONE, 1: ONE}),
-        ("beside", {ONE: ONE, two: two}), {"beside": (ONE, ONE)}, ("beside", "oneone"), ("beside", None), ("beside", 2),
-        ("across", (two, ("beside", (ONE,)))), ("across", (two, ("beside", ()))), ("across", (two, ("other", (ONE, ONE)))),
-        ("across", (("other", (ONE, ONE)), two)), ("across", (two, ("beside", (ONE, ("two",))))),
-        ("across", (two, two, ["beside", (ONE, ONE)])), (two, two), ((ONE, ONE), "beside"),
-        deep_plan(25), deep_plan(26), deep_plan(29), wide_plan("beside", 41), wide_plan("across", 41),
-        wide_plan("across", 4000), ("beside", (wide_plan("across", 20), wide_plan("across", 21))),
-        nested(lambda thing: ("beside", (thing, ONE)), 28), nested(lambda thing: ("beside", thing), 58),
-        nested(lambda thing: ("across", (ONE, [thing])), 19), nested(lambda thing: ["beside", (ONE, thing)], 28),
-        nested(lambda thing: {"beside": (ONE, thing)}, 28), ("beside", (deep_plan(24), ONE)), ("beside", (ONE, deep_plan(24))),
-        ("beside", (ONE, ONE, deep_plan(24), ONE)),
-    ]
+from things import ONE, bad_plans, deep_plan, drawn_plans, full, ones_of, refused, some_plans, star, wide_plan
 
 
 def ties_by_looking(plan):

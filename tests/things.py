@@ -74,19 +74,28 @@ PETERSEN = (10, tuple(sorted(
     + [(5, 7), (7, 9), (6, 9), (6, 8), (5, 8)])))
 
 
-def every_web(many):
-    """All webs of so many places."""
-    ties = full_ties(many)
-    for size in range(len(ties) + 1):
-        for chosen in itertools.combinations(ties, size):
+def every_choice(many, pairs):
+    """So many places, with each choice of some of the pairs."""
+    for size in range(len(pairs) + 1):
+        for chosen in itertools.combinations(pairs, size):
             yield (many, chosen)
 
 
-def some_webs(many, ties, times, seed):
-    """Webs of so many places and ties, the same ones each time."""
+def some_choices(many, pairs, size, times, seed):
+    """So many places, with choices of so many of the pairs, the same ones each time."""
     chance = random.Random(seed)
     for _ in range(times):
-        yield (many, tuple(sorted(chance.sample(full_ties(many), ties))))
+        yield (many, tuple(sorted(chance.sample(pairs, size))))
+
+
+def every_web(many):
+    """All webs of so many places."""
+    return every_choice(many, full_ties(many))
+
+
+def some_webs(many, ties, times, seed):
+    """Webs of so many places and ties."""
+    return some_choices(many, full_ties(many), ties, times, seed)
 
 
 def some_forests(many, ties, times, seed):
@@ -190,6 +199,59 @@ def drawn_plans(times, most, seed):
     chance = random.Random(seed)
     for at in range(times):
         yield drawn_plan(chance, most if at % 3 == 0 else chance.randint(1, most), 24)
+
+
+def bad_plans():
+    """Things that are no plans, some of them almost."""
+    two = ("beside", (ONE, ONE))
+    return anything() + [
+        ("two",), ("One",), ("one ",), ("",), "one", ["one"], ("one", ()), ("one", "one"), ("one", (ONE, ONE)), (("one",),),
+        ("beside",), ("across",), ("beside", ()), ("across", (ONE,)), ("beside", (two,)), ("beside", ONE), ("across", two),
+        ("beside", [ONE, ONE]), ["beside", (ONE, ONE)], ("beside", (ONE, ONE), ()), ("beside", (ONE, ONE), ONE),
+        ("beside", ONE, ONE), ("Beside", (ONE, ONE)), ("acros", (ONE, ONE)), ("apart", (ONE, ONE)), (None, (ONE, ONE)),
+        (0, (ONE, ONE)), (True, (ONE, ONE)), (("beside",), (ONE, ONE)), (["beside"], (ONE, ONE)), ({}, (ONE, ONE)),
+        ("beside", (ONE, ["one"])), ("beside", (["one"], ONE)), ("beside", (ONE, "one")), ("beside", (ONE, None)),
+        ("beside", (ONE, 1)), ("beside", (ONE, ())), ("beside", (ONE, {})), ("beside", {0: ONE, 1: ONE}),
+        ("beside", {ONE: ONE, two: two}), {"beside": (ONE, ONE)}, ("beside", "oneone"), ("beside", None), ("beside", 2),
+        ("across", (two, ("beside", (ONE,)))), ("across", (two, ("beside", ()))), ("across", (two, ("other", (ONE, ONE)))),
+        ("across", (("other", (ONE, ONE)), two)), ("across", (two, ("beside", (ONE, ("two",))))),
+        ("across", (two, two, ["beside", (ONE, ONE)])), (two, two), ((ONE, ONE), "beside"),
+        deep_plan(25), deep_plan(26), deep_plan(29), wide_plan("beside", 41), wide_plan("across", 41),
+        wide_plan("across", 4000), ("beside", (wide_plan("across", 20), wide_plan("across", 21))),
+        nested(lambda thing: ("beside", (thing, ONE)), 28), nested(lambda thing: ("beside", thing), 58),
+        nested(lambda thing: ("across", (ONE, [thing])), 19), nested(lambda thing: ["beside", (ONE, thing)], 28),
+        nested(lambda thing: {"beside": (ONE, thing)}, 28), ("beside", (deep_plan(24), ONE)), ("beside", (ONE, deep_plan(24))),
+        ("beside", (ONE, ONE, deep_plan(24), ONE)),
+    ]
+
+
+def both_arrows(many):
+    """All arrows between so many places."""
+    return tuple(itertools.permutations(range(many), 2))
+
+
+def every_one_way(many):
+    """All one-way webs of so many places."""
+    return every_choice(many, both_arrows(many))
+
+
+def some_one_ways(many, arrows, times, seed):
+    """One-way webs of so many places and arrows."""
+    return some_choices(many, both_arrows(many), arrows, times, seed)
+
+
+def some_ordered(many, arrows, times, seed):
+    """One-way webs of so many places and arrows that have an order, the same ones each time."""
+    chance = random.Random(seed)
+    for _ in range(times):
+        names = chance.sample(range(many), many)
+        chosen = chance.sample(full_ties(many), arrows)
+        yield (many, tuple(sorted((names[low], names[high]) for low, high in chosen)))
+
+
+def bad_one_ways():
+    """Things that are no one-way webs, some of them almost."""
+    return [thing for thing in bad_webs() if not same(thing, (3, ((1, 0),)), (3, ((0, 1), (2, 1))))]
 
 
 def same(thing, *others):
