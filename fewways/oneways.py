@@ -1,7 +1,7 @@
 """One-way webs: places and arrows between them, their ways, rings and orders."""
 
-from fewways.errors import NoOneWay, NoPlace
-from fewways.ways import goes_along
+from fewways.errors import NoOneWay, NoOrder, NoPlace
+from fewways.ways import goes_along, goes_round
 from fewways.webs import are_rising_pairs, check_web, is_many, is_place
 
 
@@ -74,9 +74,8 @@ def is_led(web, thing):
 
 def is_led_ring(web, thing):
     """Tell of anything whether it is a one-way ring of a one-way web."""
-    if not is_led(web, thing) or len(thing) < 2:
-        return False
-    return thing[0] == min(thing) and (thing[-1], thing[0]) in web[1]
+    check_one_way(web)
+    return goes_round(all_led(web), thing)
 
 
 def ordered(web):
@@ -102,6 +101,12 @@ def least_order(web):
     check_one_way(web)
     order = ordered(web)
     return tuple(order) if len(order) == web[0] else None
+
+
+def check_ordered(web):
+    """Refuse what is no one-way web, or one that has no order."""
+    if least_order(web) is None:
+        raise NoOrder("the one-way web has a ring")
 
 
 def some_ring(web):

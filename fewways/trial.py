@@ -90,9 +90,8 @@ def fewest(web):
     return len(least_parting(web))
 
 
-def least_parting(web):
-    """Of the partings to fewest ways the plain one that is least."""
-    check_tried(web)
+def least_partings(web):
+    """For each group, of the partings of just its places to fewest ways the plain one that is least."""
     least = least_ways(web)
     best = {0: ()}
     for group in range(1, 1 << web[0]):
@@ -101,7 +100,13 @@ def least_parting(web):
         tries = [best[group - first] + (least[first],) for first in firsts(group) if first in least]
         risen = [tuple(sorted(parting)) for parting in tries]
         best[group] = min(risen, key=lambda parting: (len(parting), parting))
-    return best[(1 << web[0]) - 1]
+    return best
+
+
+def least_parting(web):
+    """Of the partings to fewest ways the plain one that is least."""
+    check_tried(web)
+    return least_partings(web)[(1 << web[0]) - 1]
 
 
 def tally_with(tally, times, more):

@@ -1,7 +1,7 @@
 """Ways of a web, and partings of a web to ways."""
 
 from fewways.errors import NoParting, NoWay
-from fewways.webs import all_tied, are_ties, check_web, is_place, parts, tie_of
+from fewways.webs import all_tied, are_ties, check_web, each_once, is_place, is_rising, parts, tie_of
 
 
 def goes_along(near, thing):
@@ -17,6 +17,27 @@ def goes_along(near, thing):
         if thing[at] not in near[thing[at - 1]]:
             return False
     return True
+
+
+def goes_round(near, thing):
+    """Tell of anything whether it is a way that begins at its least place and closes a ring, by the same lists."""
+    return goes_along(near, thing) and thing[0] == min(thing) and thing[0] in near[thing[-1]]
+
+
+def is_wide(near, thing):
+    """Tell of anything whether it is a wide ring, by the same lists."""
+    # Where the second place is less than the last one, these are two, and with the first one three.
+    return goes_round(near, thing) and thing[1] < thing[-1]
+
+
+def all_go(near, thing, goes):
+    """Tell of anything whether it is a rising tuple of things all of which go so, by the same lists."""
+    if not isinstance(thing, tuple):
+        return False
+    for row in thing:
+        if not goes(near, row):
+            return False
+    return is_rising(thing)
 
 
 def is_way(web, thing):
@@ -46,7 +67,7 @@ def is_parting(web, thing):
     for way in thing:
         if not goes_along(near, way):
             return False
-    return sorted([place for way in thing for place in way]) == list(range(web[0]))
+    return each_once(web[0], thing)
 
 
 def check_parting(web, thing):

@@ -60,6 +60,11 @@ def are_places(many, thing):
     return is_rising(thing)
 
 
+def each_once(many, rows):
+    """Tell whether each of so many places, and nothing else, is just once in these tuples of places."""
+    return sorted([place for row in rows for place in row]) == list(range(many))
+
+
 def is_web(thing):
     """Tell of anything whether it is a web."""
     if not isinstance(thing, tuple) or len(thing) != 2:

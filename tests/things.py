@@ -254,6 +254,55 @@ def bad_one_ways():
     return [thing for thing in bad_webs() if not same(thing, (3, ((1, 0),)), (3, ((0, 1), (2, 1))))]
 
 
+def rows_of(many, least):
+    """All tuples of unlike ones of so many places, from so many of them on."""
+    for size in range(least, many + 1):
+        yield from itertools.permutations(range(many), size)
+
+
+def led_ways(web):
+    """All one-way ways of a one-way web."""
+    return [row for row in rows_of(web[0], 1) if all(step in web[1] for step in zip(row, row[1:]))]
+
+
+def led_rings(web):
+    """All one-way rings of a one-way web."""
+    return [row for row in led_ways(web) if row[0] == min(row) and (row[-1], row[0]) in web[1]]
+
+
+def both_ways_of(web):
+    return (web[0], tuple(sorted(web[1] + tuple((high, low) for low, high in web[1]))))
+
+
+def written_ways(web):
+    """All ways of a web as they are written."""
+    return [row for row in led_ways(both_ways_of(web)) if row <= row[::-1]]
+
+
+def wide_rings(web):
+    """All wide rings of a web."""
+    return [row for row in led_rings(both_ways_of(web)) if len(row) > 2 and row[1] < row[-1]]
+
+
+def covers(many, *kinds):
+    """All choices of pieces of some kinds, lists of tuples of places, such that each of so many places is on just one
+    piece: a list of rising tuples of pieces for each choice, one for each kind."""
+    pieces = [(at, piece) for at, kind in enumerate(kinds) for piece in kind]
+    by_least = {place: [row for row in pieces if min(row[1]) == place] for place in range(many)}
+
+    def cover(left):
+        if not left:
+            yield ()
+            return
+        for at, piece in by_least[min(left)]:
+            if left.issuperset(piece):
+                for rest in cover(left.difference(piece)):
+                    yield ((at, piece),) + rest
+
+    for found in cover(frozenset(range(many))):
+        yield tuple(tuple(sorted(piece for at, piece in found if at == kind)) for kind in range(len(kinds)))
+
+
 def same(thing, *others):
     """Tell whether a thing is one of the others, True and 1 being two."""
     return repr(thing) in [repr(other) for other in others]
