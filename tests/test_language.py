@@ -34,6 +34,26 @@ def calls_name(node, names):
     return isinstance(node, ast.Call) and isinstance(node.func, ast.Name) and node.func.id in names
 
 
+def own_of_classes():
+    """The methods of the package's own classes, and the values that these give their objects."""
+    for name, tree in trees():
+        for kind in [node for node in tree.body if isinstance(node, ast.ClassDef)]:
+            for node in ast.walk(kind):
+                if isinstance(node, ast.FunctionDef):
+                    yield node.name
+                elif isinstance(node, ast.Attribute) and not isinstance(node.ctx, ast.Load):
+                    yield node.attr
+
+
+def is_plain(node, defs):
+    """A value that may be given at a file's top: with functions that stand above it, but with no list or dict within."""
+    if isinstance(node, (ast.List, ast.Tuple)):
+        return all(is_plain(each, defs) and not isinstance(each, (ast.List, ast.Dict)) for each in node.elts)
+    if isinstance(node, ast.Dict):
+        return all(is_plain(each, defs) and not isinstance(each, (ast.List, ast.Dict)) for each in node.keys + node.values)
+    return isinstance(node, ast.Constant) or (isinstance(node, ast.Name) and node.id in defs)
+
+
 def bound(tree):
     """Each name that a file binds, but by an import row."""
     for node in ast.walk(tree):
@@ -100,7 +120,7 @@ class Language(unittest.TestCase):
                      for alias in node.names}
             given = set(bound(tree))
             for each in given:
-                self.assertRegex(each, r"\A[A-Za-z][A-Za-z0-9_]*\Z", name)
+                self.assertRegex(each, r"\A([A-Za-z][A-Za-z0-9_]*|__init__)\Z", name)
                 self.assertNotIn(each, dir(builtins), name)
             self.assertEqual(given & drawn, set(), name)
             for node in ast.walk(tree):
@@ -108,10 +128,74 @@ class Language(unittest.TestCase):
                     self.assertIn(node.id, given | drawn | OWN_NAMES, (name, node.lineno))
 
     def test_methods(self):
+        own = set(own_of_classes())
         for name, tree in trees():
             for node in ast.walk(tree):
                 if isinstance(node, ast.Attribute):
-                    self.assertIn(node.attr, METHODS, (name, node.lineno))
+                    self.assertIn(node.attr, METHODS | own, (name, node.lineno))
+
+    def test_own_methods_and_values(self):
+        own = list(own_of_classes())
+        for each in own:
+            for value in ("", 0, [], {}, set(), b"", ()):
+                self.assertFalse(each != "__init__" and hasattr(value, each), each)
+        for name, tree in trees():
+            for node in ast.walk(tree):
+                if isinstance(node, ast.ClassDef):
+                    self.assertIn(node, tree.body, name)
+                    self.assertLessEqual(len(node.bases), 1, (name, node.name))
+                    for row in node.body:
+                        told = isinstance(row, ast.Expr) and isinstance(row.value, ast.Constant)
+                        self.assertTrue(told or isinstance(row, ast.FunctionDef), (name, row.lineno))
+                elif isinstance(node, ast.FunctionDef) and node.name == "__init__":
+                    self.assertIsInstance(parents(tree)[node], ast.ClassDef, name)
+                    self.assertFalse([row for row in ast.walk(node) if isinstance(row, ast.Return)], name)
+
+    def test_values_at_the_top(self):
+        for name, tree in trees():
+            defs = set()
+            for node in tree.body:
+                if isinstance(node, ast.FunctionDef):
+                    defs.add(node.name)
+                if isinstance(node, ast.Assign):
+                    self.assertEqual(len(node.targets), 1, (name, node.lineno))
+                    self.assertTrue(is_plain(node.value, defs), (name, node.lineno))
+
+    def test_lists_and_dicts_of_the_top_are_only_read(self):
+        for name, tree in trees():
+            kept = {node.targets[0].id for node in tree.body if isinstance(node, ast.Assign)
+                    and isinstance(node.value, (ast.List, ast.Dict))}
+            above = parents(tree)
+            for node in ast.walk(tree):
+                if isinstance(node, ast.Name) and node.id in kept and isinstance(node.ctx, ast.Load):
+                    outer = above[node]
+                    indexed = isinstance(outer, ast.Subscript) and isinstance(outer.ctx, ast.Load) and outer.value is node
+                    asked = isinstance(outer, ast.Compare) and outer.comparators == [node]
+                    got = isinstance(outer, ast.Attribute) and outer.attr == "get"
+                    self.assertTrue(indexed or asked or got, (name, node.lineno))
+
+    def test_keywords_and_formats(self):
+        right = {"sorted": {"key", "reverse"}, "min": {"key", "default"}, "max": {"key", "default"}, "sum": {"start"},
+                 "enumerate": {"start"}, "zip": {"strict"}}
+        for name, tree in trees():
+            for node in ast.walk(tree):
+                if isinstance(node, ast.Call) and node.keywords:
+                    called = node.func.id if isinstance(node.func, ast.Name) else ""
+                    self.assertLessEqual({each.arg for each in node.keywords}, right.get(called, set()), (name, node.lineno))
+                if isinstance(node, ast.FormattedValue):
+                    self.assertIsNone(node.format_spec, (name, node.lineno))
+                if isinstance(node, ast.Starred):
+                    self.assertNotIsInstance(node.ctx, ast.Load, (name, node.lineno))
+
+    def test_refusals_are_made_on_the_spot(self):
+        for name, tree in trees():
+            for node in ast.walk(tree):
+                self.assertNotIsInstance(node, ast.Try, name)
+                if isinstance(node, ast.Raise):
+                    self.assertIsNone(node.cause, (name, node.lineno))
+                    self.assertIsInstance(node.exc, ast.Call, (name, node.lineno))
+                    self.assertRegex(node.exc.func.id, r"\A(No|Too)[A-Z]", (name, node.lineno))
+                    self.assertEqual([type(each) for each in node.exc.args], [ast.Constant], (name, node.lineno))
 
     def test_top_of_files(self):
         for name, tree in trees():

@@ -6,6 +6,50 @@ import random
 from fewways.errors import FewError
 from fewways.ways import parting_along
 
+# Each module, and behind it its functions with their arguments.
+ROWS = """
+    webs: is_web(thing) web_of(many,pairs) tied(web,place) parts(web) without(web,places)
+    ways: is_way(web,thing) written(web,way) is_parting(web,thing) plain(web,parting) ties_along(web,parting)
+        parting_along(web,ties)
+    trial: fewest(web) least_parting(web) counted(web) through_ends(web)
+    bars: shows(web,bar) keeps(web,ends,parting) shows_with(web,ends,bar) best_bar(web) is_bar_paper(web,thing)
+    forests: is_forest(web) forest_fewest(web,ends) forest_parting(web,ends) forest_bar(web,ends)
+    opens: forest_count(web) open_places(web)
+    plans: is_plan(thing) plan_web(plan)
+    fours: is_four(web,thing) four_of(web) plan_of(web)
+    acrosses: plan_fewest(plan) plan_parting(plan) plan_bar(plan)
+    oneways: is_one_way(thing) leads_to(web,place) comes_from(web,place) both_ways(web) upward(web) is_led(web,thing)
+        is_led_ring(web,thing) least_order(web) some_ring(web)
+    pairs: is_pairs(web,thing) is_marks(web,thing) most_pairs(web) some_pairs(web) some_marks(web)
+    leads: is_led_parting(web,thing) pairs_along(web,parting) led_parting(web,pairs) led_fewest(web) some_led(web)
+        is_way_paper(web,thing) way_paper(web)
+    rounds: is_round(web,thing) round_pairs(web,parting) round_of(web,pairs) round_fewest(web) some_round(web)
+        lack(web,places) lacking(web) is_round_paper(web,thing) round_paper(web)
+    spreads: is_spread(web,thing) fewest_alone(web) some_spread(web) hold_out(web,places) holding_out(web)
+    ringeds: is_ringed(web,thing) ringed_fewest(web) ringed_least(web)
+    keepers: thinned(web,begins,ends) keeps_both(web,begins,ends,parting) kept_fewest(web,begins,ends)
+        some_kept(web,begins,ends) link(web,begins,ends) link_marks(web,begins,ends)
+    reaches: reach(web) is_apart(web,thing) fewest_runs(web) some_runs(web) most_apart(web) is_run_paper(web,thing)
+        shelves(web) longest(web)
+    texts: web_text(web) one_way_text(web) places_text(places) parting_text(parting) led_text(parting) web_read(text)
+        one_way_read(text) places_read(text)
+"""
+
+
+def interface():
+    """For each module a dict: for each function of the interface the list of its arguments."""
+    found = {}
+    for word in ROWS.split():
+        if word.endswith(":"):
+            module = found.setdefault(word[:-1], {})
+        else:
+            name, arguments = word[:-1].split("(")
+            module[name] = arguments.split(",")
+    return found
+
+
+INTERFACE = interface()
+
 
 def nested(wrap, deep):
     thing = 0
