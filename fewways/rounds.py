@@ -40,7 +40,6 @@ def rings_along(many, pairs):
 
 def round_of(web, pairs):
     """The round parting along just these pairs."""
-    check_one_way(web)
     check_pairs(web, pairs)
     return ways_along(web[0], pairs), rings_along(web[0], pairs)
 

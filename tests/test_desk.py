@@ -198,6 +198,10 @@ class Deeds(unittest.TestCase):
         self.assertEqual((desk.say("shown"), desk.say("told")), ("0:", "none"))
         refused(self, NoPlace, desk.say, "lose 0")
 
+    def test_told_ends_count_behind_a_lost_place(self):
+        desk = desk_with("web 6: 1-2 1-3 1-4 1-5", "ends 0 1 5", "lose 0")
+        self.assertEqual((desk.say("told"), desk.say("forest"), desk.say("shows 0")), ("0 4", "4", "4"))
+
     def test_lose_refused(self):
         desk = desk_with("web 3: 0-1", "ends 0")
         before = everything(desk)
@@ -415,6 +419,7 @@ class DeedsThatStand(unittest.TestCase):
                 web, ends = model.kept()
                 self.assertIs(is_web(web), True)
                 self.assertEqual((desk.say("shown"), desk.say("told")), (web_text(web), places_text(ends)), stand)
+            self.assertEqual(everything(desk), by_functions(*model.kept()))
             self.assertEqual(everything(desk), everything(desk_with(*stand)))
             for _ in stand:
                 self.assertEqual(desk.say("back"), "ok")
